@@ -1,0 +1,43 @@
+package holds_test
+
+import (
+	"math"
+	"slices"
+	"testing"
+
+	"holds/api"
+	"holds/holds"
+)
+
+const (
+	free   = api.Free
+	shared = api.Shared
+	alone  = api.Alone
+)
+
+var wild = []int{math.MinInt, math.MinInt + 1, -1 << 32, -65, -64, -1, 0, 1, 2, 3, 5, 6, 63, 64, 65, 1 << 32, math.MaxInt - 1, math.MaxInt}
+
+// is wants an answer without Done.
+func is(t *testing.T, what string, r api.Reply, e api.Errno, n int) {
+	t.Helper()
+	if r.Err != e || r.N != n || len(r.Done) != 0 {
+		t.Errorf("%s = %+v, want error %d and N %d", what, r, e, n)
+	}
+}
+
+func runsAre(t *testing.T, k *holds.Kernel, file int, want ...api.Run) {
+	t.Helper()
+	if got := k.Runs(file); !slices.Equal(got, want) {
+		t.Errorf("Runs(%d) = %v, want %v", file, got, want)
+	}
+}
+
+// family has file 0 opened as descriptor 0 of so many processes.
+func family(count int) *holds.Kernel {
+	k := holds.New()
+	k.Open(0, 0)
+	for range count - 1 {
+		k.Fork(0)
+	}
+	return k
+}

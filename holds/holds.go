@@ -1,0 +1,85 @@
+// Package holds: who may hold what: see DOC.md.
+package holds
+
+import (
+	"sync"
+
+	"holds/api"
+	"holds/procs"
+	"holds/runs"
+)
+
+// Kernel is processes, their openings of files, and what is locked.
+type Kernel struct {
+	guard sync.Mutex
+	procs *procs.Table
+	files [api.MaxFiles]runs.List
+}
+
+// New makes one with the process 0 (P3).
+func New() *Kernel { return &Kernel{procs: procs.New()} }
+
+// Fork makes a process that has what another one has (P3).
+func (k *Kernel) Fork(p int) api.Reply {
+	k.guard.Lock()
+	defer k.guard.Unlock()
+	return reply(k.procs.Fork(p))
+}
+
+// Kill ends a process (P3).
+func (k *Kernel) Kill(p int) api.Reply {
+	k.guard.Lock()
+	defer k.guard.Unlock()
+	return reply(0, k.kill(p))
+}
+
+// Open opens a file (P4).
+func (k *Kernel) Open(p int, file int) api.Reply {
+	k.guard.Lock()
+	defer k.guard.Unlock()
+	return reply(k.procs.Open(p, file))
+}
+
+// Dup makes another descriptor of an opening (P4).
+func (k *Kernel) Dup(p int, fd int) api.Reply {
+	k.guard.Lock()
+	defer k.guard.Unlock()
+	return reply(k.procs.Dup(p, fd))
+}
+
+// Close takes a descriptor away (P4).
+func (k *Kernel) Close(p int, fd int) api.Reply {
+	k.guard.Lock()
+	defer k.guard.Unlock()
+	return reply(0, k.shut(p, fd))
+}
+
+// Lock locks positions, or frees them (P5).
+func (k *Kernel) Lock(p int, fd int, kind int, from int, length int, wait bool) api.Reply {
+	k.guard.Lock()
+	defer k.guard.Unlock()
+	return reply(0, k.lock(p, fd, kind, from, length))
+}
+
+// Test tells who is in the way of a lock (P5).
+func (k *Kernel) Test(p int, fd int, kind int, from int, length int) api.Reply {
+	k.guard.Lock()
+	defer k.guard.Unlock()
+	return reply(k.test(p, fd, kind, from, length))
+}
+
+// Whole locks a whole file, or frees it (P6).
+func (k *Kernel) Whole(p int, fd int, kind int, wait bool) api.Reply { return api.Reply{} }
+
+// Runs tells the locked positions of a file (P8).
+func (k *Kernel) Runs(file int) []api.Run {
+	k.guard.Lock()
+	defer k.guard.Unlock()
+	return k.tell(file)
+}
+
+// Holds tells the locks of a whole file (P8).
+func (k *Kernel) Holds(file int) []api.Hold { return nil }
+
+// Waiting tells the processes that wait (P8).
+func (k *Kernel) Waiting() []int { return nil }

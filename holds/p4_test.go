@@ -1,0 +1,64 @@
+package holds_test
+
+import (
+	"testing"
+
+	"holds/api"
+	"holds/holds"
+)
+
+func TestP4OpenTakesTheLeastDescriptor(t *testing.T) {
+	k := holds.New()
+	for fd := range api.MaxFds {
+		is(t, "Open", k.Open(0, fd%api.MaxFiles), api.OK, fd)
+	}
+	is(t, "Open", k.Open(0, 0), api.ErrFull, 0)
+	is(t, "Dup", k.Dup(0, 0), api.ErrFull, 0)
+	is(t, "Close", k.Close(0, 3), api.OK, 0)
+	is(t, "Close", k.Close(0, 1), api.OK, 0)
+	is(t, "Close again", k.Close(0, 1), api.ErrFd, 0)
+	is(t, "Dup", k.Dup(0, 2), api.OK, 1)
+	is(t, "Open", k.Open(0, 0), api.OK, 3)
+	k.Lock(0, 1, shared, 0, 1, false)
+	runsAre(t, k, 2, api.Run{Kind: shared, From: 0, To: 0})
+	k.Lock(0, 3, shared, 1, 1, false)
+	runsAre(t, k, 0, api.Run{Kind: shared, From: 1, To: 1})
+}
+
+func TestP4WrongNumbers(t *testing.T) {
+	k := family(1)
+	for _, n := range wild {
+		if n != 0 {
+			is(t, "Open by nobody", k.Open(n, 0), api.ErrProc, 0)
+			is(t, "Dup by nobody", k.Dup(n, 0), api.ErrProc, 0)
+			is(t, "Close by nobody", k.Close(n, 0), api.ErrProc, 0)
+			is(t, "Dup of nothing", k.Dup(0, n), api.ErrFd, 0)
+			is(t, "Close of nothing", k.Close(0, n), api.ErrFd, 0)
+		}
+		if n < 0 || n >= api.MaxFiles {
+			is(t, "Open of nothing", k.Open(0, n), api.ErrFile, 0)
+			runsAre(t, k, n)
+		}
+	}
+	is(t, "Dup", k.Dup(0, 0), api.OK, 1)
+}
+
+func TestP4CloseFreesTheFileWhateverDescriptor(t *testing.T) {
+	k := family(2)
+	k.Open(0, 0)
+	k.Dup(0, 0)
+	k.Open(0, 1)
+	lockAll := func() {
+		k.Lock(0, 0, alone, 0, 1, false)
+		k.Lock(0, 1, shared, 10, 2, false)
+		k.Lock(0, 2, alone, 63, 1, false)
+		k.Lock(0, 3, alone, 5, 1, false)
+		k.Lock(1, 0, shared, 11, 2, false)
+	}
+	for _, fd := range []int{2, 1, 0} {
+		lockAll()
+		is(t, "Close", k.Close(0, fd), api.OK, 0)
+		runsAre(t, k, 0, api.Run{Proc: 1, Kind: shared, From: 11, To: 12})
+		runsAre(t, k, 1, api.Run{Proc: 0, Kind: alone, From: 5, To: 5})
+	}
+}
