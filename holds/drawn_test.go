@@ -2,6 +2,7 @@ package holds_test
 
 import (
 	"math/rand"
+	"slices"
 	"testing"
 
 	"holds/api"
@@ -10,18 +11,25 @@ import (
 
 const size = api.MaxPos + 1
 
-// model says the document's words over again with a cell for each position and process.
+// model says the document's words over again with a cell for each position and process, and with each opening that ever was.
 type model struct {
-	live  [api.MaxProcs]bool
-	fds   [api.MaxProcs][api.MaxFds]int // 0 for none, else the file's number and 1
-	cells [api.MaxFiles][size][api.MaxProcs]int
+	live   [api.MaxProcs]bool
+	fds    [api.MaxProcs][api.MaxFds]*opened
+	cells  [api.MaxFiles][size][api.MaxProcs]int
+	opened []*opened
+	now    int
+}
+
+// opened has its lock, and when it was got, or got another kind, last.
+type opened struct {
+	file, kind, since int
 }
 
 func bad(e api.Errno) api.Reply { return api.Reply{Err: e} }
 
 func (m *model) noProc(p int) bool { return p < 0 || p >= api.MaxProcs || !m.live[p] }
 
-func (m *model) noFd(p, fd int) bool { return fd < 0 || fd >= api.MaxFds || m.fds[p][fd] == 0 }
+func (m *model) noFd(p, fd int) bool { return fd < 0 || fd >= api.MaxFds || m.fds[p][fd] == nil }
 
 func (m *model) fork(p int) api.Reply {
 	if m.noProc(p) {
@@ -46,16 +54,16 @@ func (m *model) kill(p int) api.Reply {
 	if m.noProc(p) {
 		return bad(api.ErrProc)
 	}
-	m.live[p], m.fds[p] = false, [api.MaxFds]int{}
+	m.live[p], m.fds[p] = false, [api.MaxFds]*opened{}
 	for file := range m.cells {
 		m.forget(p, file)
 	}
 	return api.Reply{}
 }
 
-func (m *model) place(p, what int) api.Reply {
+func (m *model) place(p int, what *opened) api.Reply {
 	for fd := range m.fds[p] {
-		if m.fds[p][fd] == 0 {
+		if m.fds[p][fd] == nil {
 			m.fds[p][fd] = what
 			return api.Reply{N: fd}
 		}
@@ -70,7 +78,9 @@ func (m *model) open(p, file int) api.Reply {
 	case file < 0 || file >= api.MaxFiles:
 		return bad(api.ErrFile)
 	}
-	return m.place(p, file+1)
+	o := &opened{file: file}
+	m.opened = append(m.opened, o)
+	return m.place(p, o)
 }
 
 func (m *model) dup(p, fd int) api.Reply {
@@ -90,8 +100,8 @@ func (m *model) close(p, fd int) api.Reply {
 	case m.noFd(p, fd):
 		return bad(api.ErrFd)
 	}
-	m.forget(p, m.fds[p][fd]-1)
-	m.fds[p][fd] = 0
+	m.forget(p, m.fds[p][fd].file)
+	m.fds[p][fd] = nil
 	return api.Reply{}
 }
 
@@ -143,7 +153,7 @@ func (m *model) lock(p, fd, kind, from, length int) api.Reply {
 	if e := m.wrong(p, fd, kind, free, from, length); e != api.OK {
 		return bad(e)
 	}
-	file, at := m.fds[p][fd]-1, within(from, length)
+	file, at := m.fds[p][fd].file, within(from, length)
 	if m.biter(p, file, kind, at) >= 0 {
 		return bad(api.ErrBusy)
 	}
@@ -162,7 +172,7 @@ func (m *model) test(p, fd, kind, from, length int) api.Reply {
 	if e := m.wrong(p, fd, kind, shared, from, length); e != api.OK {
 		return bad(e)
 	}
-	return api.Reply{N: m.biter(p, m.fds[p][fd]-1, kind, within(from, length))}
+	return api.Reply{N: m.biter(p, m.fds[p][fd].file, kind, within(from, length))}
 }
 
 func (m *model) runs(file int) []api.Run {
@@ -183,6 +193,54 @@ func (m *model) runs(file int) []api.Run {
 	return out
 }
 
+func (m *model) users(o *opened) []int {
+	var out []int
+	for p := range m.fds {
+		if slices.Contains(m.fds[p][:], o) {
+			out = append(out, p)
+		}
+	}
+	return out
+}
+
+// locked lists the openings of a file that have a lock and are not gone.
+func (m *model) locked(file int) []*opened {
+	var out []*opened
+	for _, o := range m.opened {
+		if o.file == file && o.kind != free && len(m.users(o)) > 0 {
+			out = append(out, o)
+		}
+	}
+	return out
+}
+
+func (m *model) whole(p, fd, kind int) api.Reply {
+	if e := m.wrong(p, fd, kind, free, 0, 0); e != api.OK {
+		return bad(e)
+	}
+	o := m.fds[p][fd]
+	for _, other := range m.locked(o.file) {
+		if other != o && kind != free && (kind == alone || other.kind == alone) {
+			return bad(api.ErrBusy)
+		}
+	}
+	if kind != o.kind {
+		m.now++
+		o.kind, o.since = kind, m.now
+	}
+	return api.Reply{}
+}
+
+func (m *model) holds(file int) []api.Hold {
+	list := m.locked(file)
+	slices.SortFunc(list, func(a, b *opened) int { return a.since - b.since })
+	var out []api.Hold
+	for _, o := range list {
+		out = append(out, api.Hold{Kind: o.kind, Procs: m.users(o)})
+	}
+	return out
+}
+
 // step makes the same drawn call of both; some of its numbers are wrong.
 func (m *model) step(t *testing.T, r *rand.Rand, k *holds.Kernel) {
 	p, fd, file := r.Intn(7)-r.Intn(2), r.Intn(6)-r.Intn(2), r.Intn(4)-r.Intn(2)
@@ -191,7 +249,7 @@ func (m *model) step(t *testing.T, r *rand.Rand, k *holds.Kernel) {
 	}
 	kind, from, length := r.Intn(4)-r.Intn(2), r.Intn(66)-r.Intn(2), r.Intn(12)-r.Intn(12)
 	var got, want api.Reply
-	switch n := r.Intn(40); {
+	switch n := r.Intn(50); {
 	case n < 2:
 		got, want = k.Fork(p), m.fork(p)
 	case n < 3:
@@ -204,12 +262,15 @@ func (m *model) step(t *testing.T, r *rand.Rand, k *holds.Kernel) {
 		got, want = k.Close(p, fd), m.close(p, fd)
 	case n < 13:
 		got, want = k.Test(p, fd, kind, from, length), m.test(p, fd, kind, from, length)
+	case n < 23:
+		got, want = k.Whole(p, fd, kind, false), m.whole(p, fd, kind)
 	default:
 		got, want = k.Lock(p, fd, kind, from, length, false), m.lock(p, fd, kind, from, length)
 	}
 	is(t, "a drawn call", got, want.Err, want.N)
 	for f := range api.MaxFiles {
 		runsAre(t, k, f, m.runs(f)...)
+		holdsAre(t, k, f, m.holds(f)...)
 	}
 }
 

@@ -32,12 +32,39 @@ func runsAre(t *testing.T, k *holds.Kernel, file int, want ...api.Run) {
 	}
 }
 
+func hold(kind int, procs ...int) api.Hold {
+	return api.Hold{Kind: kind, Procs: procs}
+}
+
+func sameHold(a, b api.Hold) bool {
+	return a.Kind == b.Kind && slices.Equal(a.Procs, b.Procs)
+}
+
+func holdsAre(t *testing.T, k *holds.Kernel, file int, want ...api.Hold) {
+	t.Helper()
+	if got := k.Holds(file); !slices.EqualFunc(got, want, sameHold) {
+		t.Errorf("Holds(%d) = %v, want %v", file, got, want)
+	}
+}
+
 // family has file 0 opened as descriptor 0 of so many processes.
 func family(count int) *holds.Kernel {
 	k := holds.New()
 	k.Open(0, 0)
 	for range count - 1 {
 		k.Fork(0)
+	}
+	return k
+}
+
+// apart has file 0 opened by so many processes, each for itself, as descriptor 0.
+func apart(count int) *holds.Kernel {
+	k := holds.New()
+	for range count - 1 {
+		k.Fork(0)
+	}
+	for p := range count {
+		k.Open(p, 0)
 	}
 	return k
 }

@@ -7,13 +7,20 @@ import (
 	"holds/api"
 	"holds/procs"
 	"holds/runs"
+	"holds/wholes"
 )
 
 // Kernel is processes, their openings of files, and what is locked.
 type Kernel struct {
 	guard sync.Mutex
 	procs *procs.Table
-	files [api.MaxFiles]runs.List
+	files [api.MaxFiles]locked
+}
+
+// locked is what is locked of a file: the two sorts have nothing to do with one another.
+type locked struct {
+	runs   runs.List
+	wholes wholes.List
 }
 
 // New makes one with the process 0 (P3).
@@ -69,17 +76,25 @@ func (k *Kernel) Test(p int, fd int, kind int, from int, length int) api.Reply {
 }
 
 // Whole locks a whole file, or frees it (P6).
-func (k *Kernel) Whole(p int, fd int, kind int, wait bool) api.Reply { return api.Reply{} }
+func (k *Kernel) Whole(p int, fd int, kind int, wait bool) api.Reply {
+	k.guard.Lock()
+	defer k.guard.Unlock()
+	return reply(0, k.whole(p, fd, kind))
+}
 
 // Runs tells the locked positions of a file (P8).
 func (k *Kernel) Runs(file int) []api.Run {
 	k.guard.Lock()
 	defer k.guard.Unlock()
-	return k.tell(file)
+	return k.tellRuns(file)
 }
 
 // Holds tells the locks of a whole file (P8).
-func (k *Kernel) Holds(file int) []api.Hold { return nil }
+func (k *Kernel) Holds(file int) []api.Hold {
+	k.guard.Lock()
+	defer k.guard.Unlock()
+	return k.tellWholes(file)
+}
 
 // Waiting tells the processes that wait (P8).
 func (k *Kernel) Waiting() []int { return nil }

@@ -2,8 +2,10 @@ package holds
 
 import (
 	"holds/api"
+	"holds/procs"
 	"holds/runs"
 	"holds/terms"
+	"holds/wholes"
 )
 
 // The functions of this file are called while the guard is held.
@@ -12,20 +14,30 @@ func (k *Kernel) kill(p int) terms.Fault {
 	if f := k.procs.Kill(p); f != terms.OK {
 		return f
 	}
-	for file, list := range k.files {
-		k.files[file] = list.Without(p)
+	for i := range k.files {
+		k.files[i].runs = k.files[i].runs.Without(p)
 	}
+	k.sweep()
 	return terms.OK
 }
 
 func (k *Kernel) shut(p, fd int) terms.Fault {
-	file, f := k.procs.Close(p, fd)
+	o, f := k.procs.Close(p, fd)
 	if f != terms.OK {
 		return f
 	}
 	// All of p's locks on the file go, those too that came by another descriptor.
-	k.files[file] = k.files[file].Without(p)
+	at := &k.files[o.File()]
+	at.runs = at.runs.Without(p)
+	k.sweep()
 	return terms.OK
+}
+
+// sweep takes the locks of those openings away of which there is no descriptor any more.
+func (k *Kernel) sweep() {
+	for i := range k.files {
+		k.files[i].wholes = k.files[i].wholes.Keep(k.procs.InUse)
+	}
 }
 
 // lock does not wait yet: what is in the way is told as Busy.
@@ -34,14 +46,15 @@ func (k *Kernel) lock(p, fd, kind, from, length int) terms.Fault {
 	if f != terms.OK {
 		return f
 	}
-	if k.files[file].Biter(asked) >= 0 {
+	at := &k.files[file]
+	if at.runs.Biter(asked) >= 0 {
 		return terms.Busy
 	}
-	next := k.files[file].Set(asked)
+	next := at.runs.Set(asked)
 	if len(next) > api.MaxRuns {
 		return terms.Table
 	}
-	k.files[file] = next
+	at.runs = next
 	return terms.OK
 }
 
@@ -50,38 +63,46 @@ func (k *Kernel) test(p, fd, kind, from, length int) (int, terms.Fault) {
 	if f != terms.OK {
 		return 0, f
 	}
-	return k.files[file].Biter(asked), terms.OK
+	return k.files[file].runs.Biter(asked), terms.OK
 }
 
-// read makes of a call's numbers the file and the lock that is asked for. The kinds begin at least, since not every call knows Free.
+// whole does not wait yet, as lock does not.
+func (k *Kernel) whole(p, fd, kind int) terms.Fault {
+	owner, known, f := k.find(p, fd, kind, terms.Free)
+	if f != terms.OK {
+		return f
+	}
+	at := &k.files[owner.File()]
+	asked := wholes.Lock{Owner: owner, Kind: known}
+	if at.wholes.Bitten(asked) {
+		return terms.Busy
+	}
+	at.wholes = at.wholes.Set(asked)
+	return terms.OK
+}
+
+// read makes of a call's numbers the file and the lock on positions that is asked for.
 func (k *Kernel) read(p, fd, kind, from, length int, least terms.Kind) (int, runs.Run, terms.Fault) {
-	file, f := k.procs.File(p, fd)
+	o, known, f := k.find(p, fd, kind, least)
 	if f != terms.OK {
 		return 0, runs.Run{}, f
-	}
-	known, ok := terms.KindOf(kind)
-	if !ok || known < least {
-		return 0, runs.Run{}, terms.NoKind
 	}
 	first, last, ok := runs.Bounds(from, length)
 	if !ok {
 		return 0, runs.Run{}, terms.NoRange
 	}
-	return file, runs.Run{Proc: p, Kind: known, From: first, To: last}, terms.OK
+	return o.File(), runs.Run{Proc: p, Kind: known, From: first, To: last}, terms.OK
 }
 
-func (k *Kernel) tell(file int) []api.Run {
-	if file < 0 || file >= api.MaxFiles {
-		return nil
+// find makes of a call's numbers the opening and the kind. The kinds begin at least, since not every call knows Free.
+func (k *Kernel) find(p, fd, kind int, least terms.Kind) (*procs.Opening, terms.Kind, terms.Fault) {
+	o, f := k.procs.Find(p, fd)
+	if f != terms.OK {
+		return nil, terms.Free, f
 	}
-	out := make([]api.Run, 0, len(k.files[file]))
-	for _, r := range k.files[file] {
-		out = append(out, api.Run{Proc: r.Proc, Kind: int(r.Kind), From: r.From, To: r.To})
+	known, ok := terms.KindOf(kind)
+	if !ok || known < least {
+		return nil, terms.Free, terms.NoKind
 	}
-	return out
-}
-
-// reply turns the words of the inside into those of package api, which have the same numbers.
-func reply(n int, f terms.Fault) api.Reply {
-	return api.Reply{Err: api.Errno(f), N: n}
+	return o, known, terms.OK
 }

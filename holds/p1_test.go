@@ -40,6 +40,9 @@ func TestP1FirstErrorAndNothingChanges(t *testing.T) {
 		k.Open(0, 1)
 	}
 	k.Lock(1, 0, alone, 10, 5, false)
+	k.Whole(1, 0, shared, false)
+	k.Close(3, 0)
+	k.Open(3, 0)
 	for i := range api.MaxRuns - 1 {
 		k.Lock(2, 0, shared, 20+2*i, 1, false)
 	}
@@ -66,7 +69,12 @@ func TestP1FirstErrorAndNothingChanges(t *testing.T) {
 	is(t, "Test", k.Test(1, 1, free, 64, 0), api.ErrFd, 0)
 	is(t, "Test", k.Test(1, 0, free, 64, 0), api.ErrKind, 0)
 	is(t, "Test", k.Test(1, 0, alone, 64, 0), api.ErrRange, 0)
+	is(t, "Whole", k.Whole(6, 5, 3, false), api.ErrProc, 0)
+	is(t, "Whole", k.Whole(1, 1, 3, false), api.ErrFd, 0)
+	is(t, "Whole", k.Whole(3, 0, 3, false), api.ErrKind, 0)
+	is(t, "Whole", k.Whole(3, 0, alone, false), api.ErrBusy, 0)
 	runsAre(t, k, 0, before...)
+	holdsAre(t, k, 0, hold(shared, 0, 1, 2, 4, 5))
 	is(t, "Open behind it all", k.Open(1, 2), api.OK, 1)
 }
 
@@ -84,6 +92,10 @@ func TestP1Goroutines(t *testing.T) {
 			want = append(want, api.Run{Proc: p, Kind: alone, From: 10 * p, To: 10*p + 2}, api.Run{Proc: p, Kind: shared, From: 10*p + 5, To: 10*p + 6})
 		}
 		runsAre(t, k, 0, want...)
+		holdsAre(t, k, 0, hold(alone, 0, 1, 2, 3, 4, 5))
+		if got := len(k.Holds(1)); got != api.MaxProcs {
+			t.Errorf("%d locks of the whole file 1", got)
+		}
 		for p := range api.MaxProcs {
 			is(t, "Dup", k.Dup(p, 0), api.OK, 2)
 		}
@@ -98,9 +110,12 @@ func busyWith(k *holds.Kernel, p int) {
 		k.Lock(p, fd, shared, p, 1, false)
 		k.Test(p, 0, shared, 0, 0)
 		k.Runs(0)
+		k.Whole(p, fd, shared, false)
+		k.Whole(p, 0, alone, false)
+		k.Holds(1)
 		k.Close(p, fd)
 		k.Close(p, fd+1)
 	}
-	k.Open(p, 1)
+	k.Whole(p, k.Open(p, 1).N, shared, false)
 	k.Lock(p, 0, shared, 10*p+5, 2, false)
 }

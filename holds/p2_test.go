@@ -1,9 +1,11 @@
 package holds_test
 
 import (
+	"slices"
 	"testing"
 
 	"holds/api"
+	"holds/holds"
 )
 
 func TestP2ListsAreNew(t *testing.T) {
@@ -25,15 +27,59 @@ func TestP2ListsAreNew(t *testing.T) {
 	runsAre(t, k, 0, api.Run{Kind: alone, From: 0, To: 63})
 }
 
+func TestP2ListsOfHoldsAreNew(t *testing.T) {
+	k := family(3)
+	k.Open(0, 0)
+	k.Whole(0, 0, shared, false)
+	k.Whole(0, 1, shared, false)
+	want := []api.Hold{hold(shared, 0, 1, 2), hold(shared, 0)}
+	kept := k.Holds(0)
+	other := k.Holds(0)
+	for i := range other {
+		_ = append(other[i].Procs, 9, 9)
+		clear(other[i].Procs[:cap(other[i].Procs)])
+	}
+	holdsAre(t, k, 0, want...)
+	clear(other[:cap(other)])
+	_ = append(other, hold(alone, 9))
+	holdsAre(t, k, 0, want...)
+	k.Kill(1)
+	k.Whole(0, 0, free, false)
+	k.Whole(0, 1, alone, false)
+	if !slices.EqualFunc(kept, want, sameHold) {
+		t.Errorf("a list that came out has become %v", kept)
+	}
+}
+
+// Both openings are the same processes', so that one list told for both of them would show.
+func TestP2ListsOfOneAnswerAreApart(t *testing.T) {
+	k := holds.New()
+	k.Open(0, 0)
+	k.Open(0, 0)
+	k.Fork(0)
+	k.Whole(0, 0, shared, false)
+	k.Whole(0, 1, shared, false)
+	list := k.Holds(0)
+	_ = append(list[0].Procs, 9, 9)
+	clear(list[0].Procs)
+	if !sameHold(list[1], hold(shared, 0, 1)) {
+		t.Errorf("the second list has become %v", list[1])
+	}
+}
+
 func TestP2KernelsAreApart(t *testing.T) {
 	a, b := family(1), family(1)
 	a.Lock(0, 0, alone, 0, 0, false)
+	a.Whole(0, 0, alone, false)
 	is(t, "Fork", a.Fork(0), api.OK, 1)
 	is(t, "Open", a.Open(0, 1), api.OK, 1)
 	runsAre(t, b, 0)
+	holdsAre(t, b, 0)
 	is(t, "Dup", b.Dup(0, 1), api.ErrFd, 0)
 	is(t, "Kill", b.Kill(1), api.ErrProc, 0)
 	is(t, "Lock", b.Lock(0, 0, alone, 0, 0, false), api.OK, 0)
+	is(t, "Whole", b.Whole(0, 0, shared, false), api.OK, 0)
 	is(t, "Kill", b.Kill(0), api.OK, 0)
+	holdsAre(t, a, 0, hold(alone, 0, 1))
 	runsAre(t, a, 0, api.Run{Kind: alone, From: 0, To: 63})
 }

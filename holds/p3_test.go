@@ -78,3 +78,28 @@ func TestP3KillTakesLocksAndDescriptors(t *testing.T) {
 		is(t, "Fork of nobody", k.Fork(p), api.ErrProc, 0)
 	}
 }
+
+func TestP3KillAndOpenings(t *testing.T) {
+	k := holds.New()
+	for file := range api.MaxFiles {
+		k.Open(0, file)
+		k.Whole(0, file, alone, false)
+	}
+	is(t, "Fork", k.Fork(0), api.OK, 1)
+	k.Close(1, 2)
+	k.Open(1, 0)
+	is(t, "Kill", k.Kill(0), api.OK, 0)
+	holdsAre(t, k, 0, hold(alone, 1))
+	holdsAre(t, k, 1, hold(alone, 1))
+	holdsAre(t, k, 2)
+	is(t, "Whole of another opening", k.Whole(1, 2, shared, false), api.ErrBusy, 0)
+	is(t, "Fork", k.Fork(1), api.OK, 0)
+	holdsAre(t, k, 0, hold(alone, 0, 1))
+	is(t, "the child lets it go", k.Whole(0, 0, free, false), api.OK, 0)
+	is(t, "Whole of another opening", k.Whole(1, 2, shared, false), api.OK, 0)
+	is(t, "Kill", k.Kill(1), api.OK, 0)
+	is(t, "Kill", k.Kill(0), api.OK, 0)
+	for file := range api.MaxFiles {
+		holdsAre(t, k, file)
+	}
+}

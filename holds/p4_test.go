@@ -62,3 +62,43 @@ func TestP4CloseFreesTheFileWhateverDescriptor(t *testing.T) {
 		runsAre(t, k, 1, api.Run{Proc: 0, Kind: alone, From: 5, To: 5})
 	}
 }
+
+func TestP4TheLockGoesWithTheLastDescriptor(t *testing.T) {
+	k := apart(2)
+	k.Dup(0, 0)
+	k.Fork(0)
+	k.Whole(0, 0, alone, false)
+	holdsAre(t, k, 0, hold(alone, 0, 2))
+	is(t, "Close", k.Close(0, 1), api.OK, 0)
+	holdsAre(t, k, 0, hold(alone, 0, 2))
+	is(t, "Close", k.Close(0, 0), api.OK, 0)
+	holdsAre(t, k, 0, hold(alone, 2))
+	is(t, "Close", k.Close(2, 0), api.OK, 0)
+	holdsAre(t, k, 0, hold(alone, 2))
+	is(t, "Whole, one descriptor is left", k.Whole(1, 0, shared, false), api.ErrBusy, 0)
+	is(t, "Open of the same number", k.Open(2, 0), api.OK, 0)
+	is(t, "Close", k.Close(2, 1), api.OK, 0)
+	holdsAre(t, k, 0)
+	is(t, "Whole, none is left", k.Whole(1, 0, alone, false), api.OK, 0)
+	holdsAre(t, k, 0, hold(alone, 1))
+}
+
+func TestP4CloseLeavesOtherOpenings(t *testing.T) {
+	k := holds.New()
+	for _, file := range []int{0, 0, 1, 2} {
+		k.Open(0, file)
+	}
+	for fd := range 4 {
+		k.Whole(0, fd, shared, false)
+	}
+	is(t, "Close", k.Close(0, 0), api.OK, 0)
+	holdsAre(t, k, 0, hold(shared, 0))
+	holdsAre(t, k, 1, hold(shared, 0))
+	holdsAre(t, k, 2, hold(shared, 0))
+	is(t, "Close", k.Close(0, 2), api.OK, 0)
+	holdsAre(t, k, 0, hold(shared, 0))
+	holdsAre(t, k, 1)
+	holdsAre(t, k, 2, hold(shared, 0))
+	is(t, "an opening anew has no lock", k.Open(0, 1), api.OK, 0)
+	holdsAre(t, k, 1)
+}

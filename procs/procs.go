@@ -6,10 +6,13 @@ import (
 	"holds/terms"
 )
 
-// opening is known by its address: two of the same file are two.
-type opening struct {
+// Opening is known by its address: two of the same file are two.
+type Opening struct {
 	file int
 }
+
+// File tells of which file it is.
+func (o *Opening) File() int { return o.file }
 
 // place is where an opening is looked up.
 type place struct {
@@ -19,12 +22,12 @@ type place struct {
 // Table is the processes and their descriptors.
 type Table struct {
 	live  [api.MaxProcs]bool
-	under map[place]*opening
+	under map[place]*Opening
 }
 
 // New makes one with the process 0, without descriptors.
 func New() *Table {
-	t := &Table{under: map[place]*opening{}}
+	t := &Table{under: map[place]*Opening{}}
 	t.live[0] = true
 	return t
 }
@@ -67,44 +70,29 @@ func (t *Table) Open(p, file int) (int, terms.Fault) {
 	if file < 0 || file >= api.MaxFiles {
 		return 0, terms.NoFile
 	}
-	return t.give(p, &opening{file: file})
+	return t.give(p, &Opening{file: file})
 }
 
 // Dup makes another descriptor of the opening that fd is of, and tells it.
 func (t *Table) Dup(p, fd int) (int, terms.Fault) {
-	o, f := t.find(p, fd)
+	o, f := t.Find(p, fd)
 	if f != terms.OK {
 		return 0, f
 	}
 	return t.give(p, o)
 }
 
-// Close takes a descriptor away, and tells of which file it was.
-func (t *Table) Close(p, fd int) (int, terms.Fault) {
-	file, f := t.File(p, fd)
+// Close takes a descriptor away, and tells of which opening it was.
+func (t *Table) Close(p, fd int) (*Opening, terms.Fault) {
+	o, f := t.Find(p, fd)
 	if f == terms.OK {
 		delete(t.under, place{p, fd})
 	}
-	return file, f
+	return o, f
 }
 
-// File tells of which file a descriptor is.
-func (t *Table) File(p, fd int) (int, terms.Fault) {
-	o, f := t.find(p, fd)
-	if f != terms.OK {
-		return 0, f
-	}
-	return o.file, terms.OK
-}
-
-func (t *Table) check(p int) terms.Fault {
-	if p < 0 || p >= api.MaxProcs || !t.live[p] {
-		return terms.NoProc
-	}
-	return terms.OK
-}
-
-func (t *Table) find(p, fd int) (*opening, terms.Fault) {
+// Find tells of which opening a descriptor is.
+func (t *Table) Find(p, fd int) (*Opening, terms.Fault) {
 	if f := t.check(p); f != terms.OK {
 		return nil, f
 	}
@@ -115,7 +103,39 @@ func (t *Table) find(p, fd int) (*opening, terms.Fault) {
 	return o, terms.OK
 }
 
-func (t *Table) give(p int, o *opening) (int, terms.Fault) {
+// Users lists the processes that have a descriptor of an opening, rising, each once.
+func (t *Table) Users(o *Opening) []int {
+	var users []int
+	for p := range api.MaxProcs {
+		if t.has(p, o) {
+			users = append(users, p)
+		}
+	}
+	return users
+}
+
+// InUse tells whether there is a descriptor of an opening still.
+func (t *Table) InUse(o *Opening) bool {
+	return len(t.Users(o)) > 0
+}
+
+func (t *Table) has(p int, o *Opening) bool {
+	for fd := range api.MaxFds {
+		if t.under[place{p, fd}] == o {
+			return true
+		}
+	}
+	return false
+}
+
+func (t *Table) check(p int) terms.Fault {
+	if p < 0 || p >= api.MaxProcs || !t.live[p] {
+		return terms.NoProc
+	}
+	return terms.OK
+}
+
+func (t *Table) give(p int, o *Opening) (int, terms.Fault) {
 	for fd := range api.MaxFds {
 		at := place{p, fd}
 		if _, ok := t.under[at]; !ok {

@@ -1,6 +1,7 @@
 package procs
 
 import (
+	"slices"
 	"testing"
 
 	"holds/terms"
@@ -39,16 +40,45 @@ func TestNothingIsLeftOfTheGone(t *testing.T) {
 	}
 }
 
-func TestFile(t *testing.T) {
+func TestFind(t *testing.T) {
 	tab := New()
 	tab.Open(0, 2)
-	if file, f := tab.File(0, 0); file != 2 || f != terms.OK {
-		t.Errorf("File(0, 0) = %d, %d", file, f)
+	if o, f := tab.Find(0, 0); f != terms.OK || o.File() != 2 {
+		t.Errorf("Find(0, 0) = %v, %d", o, f)
 	}
-	if file, f := tab.File(0, 1); file != 0 || f != terms.NoFd {
-		t.Errorf("File(0, 1) = %d, %d", file, f)
+	if o, f := tab.Find(0, 1); o != nil || f != terms.NoFd {
+		t.Errorf("Find(0, 1) = %v, %d", o, f)
 	}
-	if file, f := tab.File(1, 0); file != 0 || f != terms.NoProc {
-		t.Errorf("File(1, 0) = %d, %d", file, f)
+	if o, f := tab.Find(1, 0); o != nil || f != terms.NoProc {
+		t.Errorf("Find(1, 0) = %v, %d", o, f)
 	}
+}
+
+func usersAre(t *testing.T, tab *Table, o *Opening, want ...int) {
+	t.Helper()
+	if got := tab.Users(o); !slices.Equal(got, want) || tab.InUse(o) != (len(want) > 0) {
+		t.Errorf("Users = %v, InUse = %v, want %v", got, tab.InUse(o), want)
+	}
+}
+
+func TestUsers(t *testing.T) {
+	tab := New()
+	tab.Open(0, 1)
+	tab.Fork(0)
+	tab.Open(0, 1)
+	tab.Dup(0, 0)
+	first, _ := tab.Find(0, 0)
+	second, _ := tab.Find(0, 1)
+	usersAre(t, tab, first, 0, 1)
+	usersAre(t, tab, second, 0)
+	if o, f := tab.Close(0, 0); o != first || f != terms.OK {
+		t.Errorf("Close(0, 0) = %v, %d", o, f)
+	}
+	usersAre(t, tab, first, 0, 1)
+	tab.Close(0, 2)
+	usersAre(t, tab, first, 1)
+	tab.Kill(1)
+	usersAre(t, tab, first)
+	tab.Close(0, 1)
+	usersAre(t, tab, second)
 }

@@ -1,0 +1,75 @@
+package holds_test
+
+import (
+	"testing"
+
+	"holds/api"
+	"holds/holds"
+)
+
+func TestP8HoldsInTheOrderInWhichTheyWereGot(t *testing.T) {
+	k := apart(3)
+	for _, p := range []int{2, 0, 1} {
+		k.Whole(p, 0, shared, false)
+	}
+	holdsAre(t, k, 0, hold(shared, 2), hold(shared, 0), hold(shared, 1))
+	is(t, "the same kind", k.Whole(2, 0, shared, true), api.OK, 0)
+	is(t, "the same kind", k.Whole(0, 0, shared, false), api.OK, 0)
+	is(t, "busy", k.Whole(2, 0, alone, false), api.ErrBusy, 0)
+	holdsAre(t, k, 0, hold(shared, 2), hold(shared, 0), hold(shared, 1))
+	k.Whole(2, 0, free, false)
+	k.Whole(2, 0, shared, false)
+	holdsAre(t, k, 0, hold(shared, 0), hold(shared, 1), hold(shared, 2))
+	k.Close(0, 0)
+	k.Open(0, 0)
+	k.Whole(0, 0, shared, false)
+	holdsAre(t, k, 0, hold(shared, 1), hold(shared, 2), hold(shared, 0))
+}
+
+// A lock changes its kind beside others only towards Shared, and then there was none beside it.
+func TestP8HoldsOfAnotherKind(t *testing.T) {
+	k := apart(3)
+	k.Whole(1, 0, alone, false)
+	k.Whole(1, 0, alone, false)
+	holdsAre(t, k, 0, hold(alone, 1))
+	k.Whole(1, 0, shared, false)
+	k.Whole(0, 0, shared, false)
+	holdsAre(t, k, 0, hold(shared, 1), hold(shared, 0))
+	k.Whole(0, 0, free, false)
+	k.Whole(1, 0, alone, false)
+	holdsAre(t, k, 0, hold(alone, 1))
+}
+
+func TestP8HoldsOfProcessesRisingEachOnce(t *testing.T) {
+	k := holds.New()
+	k.Open(0, 2)
+	k.Fork(0)
+	k.Fork(1)
+	k.Fork(2)
+	k.Kill(0)
+	k.Kill(2)
+	k.Dup(3, 0)
+	k.Dup(3, 0)
+	k.Close(3, 0)
+	k.Whole(3, 2, alone, false)
+	holdsAre(t, k, 2, hold(alone, 1, 3))
+	k.Fork(3)
+	holdsAre(t, k, 2, hold(alone, 0, 1, 3))
+	is(t, "Open of another one", k.Open(1, 2), api.OK, 1)
+	holdsAre(t, k, 2, hold(alone, 0, 1, 3))
+	k.Close(1, 0)
+	holdsAre(t, k, 2, hold(alone, 0, 3))
+}
+
+func TestP8OfNoFile(t *testing.T) {
+	k := apart(1)
+	k.Whole(0, 0, alone, false)
+	k.Lock(0, 0, alone, 0, 0, false)
+	for _, n := range wild {
+		if n != 0 {
+			holdsAre(t, k, n)
+			runsAre(t, k, n)
+		}
+	}
+	holdsAre(t, k, 0, hold(alone, 0))
+}
