@@ -17,11 +17,21 @@ const (
 
 var wild = []int{math.MinInt, math.MinInt + 1, -1 << 32, -65, -64, -1, 0, 1, 2, 3, 5, 6, 63, 64, 65, 1 << 32, math.MaxInt - 1, math.MaxInt}
 
-// is wants an answer without Done.
-func is(t *testing.T, what string, r api.Reply, e api.Errno, n int) {
+func is(t *testing.T, what string, r api.Reply, e api.Errno, n int, done ...api.Done) {
 	t.Helper()
-	if r.Err != e || r.N != n || len(r.Done) != 0 {
-		t.Errorf("%s = %+v, want error %d and N %d", what, r, e, n)
+	if r.Err != e || r.N != n || !slices.Equal(r.Done, done) {
+		t.Errorf("%s = %+v, want error %d, N %d and Done %v", what, r, e, n, done)
+	}
+}
+
+func done(p int, e api.Errno) api.Done {
+	return api.Done{Proc: p, Err: e}
+}
+
+func waitingAre(t *testing.T, k *holds.Kernel, want ...int) {
+	t.Helper()
+	if got := k.Waiting(); !slices.Equal(got, want) {
+		t.Errorf("Waiting() = %v, want %v", got, want)
 	}
 }
 

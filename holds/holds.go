@@ -6,15 +6,19 @@ import (
 
 	"holds/api"
 	"holds/procs"
+	"holds/queue"
 	"holds/runs"
+	"holds/terms"
 	"holds/wholes"
 )
 
-// Kernel is processes, their openings of files, and what is locked.
+// Kernel is processes, their openings of files, what is locked, and what is waited with. Turns counts the locks of whole files that were asked for.
 type Kernel struct {
 	guard sync.Mutex
 	procs *procs.Table
 	files [api.MaxFiles]locked
+	queue queue.List
+	turns int
 }
 
 // locked is what is locked of a file: the two sorts have nothing to do with one another.
@@ -28,58 +32,44 @@ func New() *Kernel { return &Kernel{procs: procs.New()} }
 
 // Fork makes a process that has what another one has (P3).
 func (k *Kernel) Fork(p int) api.Reply {
-	k.guard.Lock()
-	defer k.guard.Unlock()
-	return reply(k.procs.Fork(p))
+	return k.call(p, func() (int, terms.Fault) { return k.procs.Fork(p) })
 }
 
-// Kill ends a process (P3).
+// Kill ends a process, one that waits too (P3).
 func (k *Kernel) Kill(p int) api.Reply {
 	k.guard.Lock()
 	defer k.guard.Unlock()
-	return reply(0, k.kill(p))
+	return k.answer(0, k.kill(p))
 }
 
 // Open opens a file (P4).
 func (k *Kernel) Open(p int, file int) api.Reply {
-	k.guard.Lock()
-	defer k.guard.Unlock()
-	return reply(k.procs.Open(p, file))
+	return k.call(p, func() (int, terms.Fault) { return k.procs.Open(p, file) })
 }
 
 // Dup makes another descriptor of an opening (P4).
 func (k *Kernel) Dup(p int, fd int) api.Reply {
-	k.guard.Lock()
-	defer k.guard.Unlock()
-	return reply(k.procs.Dup(p, fd))
+	return k.call(p, func() (int, terms.Fault) { return k.procs.Dup(p, fd) })
 }
 
 // Close takes a descriptor away (P4).
 func (k *Kernel) Close(p int, fd int) api.Reply {
-	k.guard.Lock()
-	defer k.guard.Unlock()
-	return reply(0, k.shut(p, fd))
+	return k.call(p, func() (int, terms.Fault) { return 0, k.shut(p, fd) })
 }
 
 // Lock locks positions, or frees them (P5).
 func (k *Kernel) Lock(p int, fd int, kind int, from int, length int, wait bool) api.Reply {
-	k.guard.Lock()
-	defer k.guard.Unlock()
-	return reply(0, k.lock(p, fd, kind, from, length))
+	return k.call(p, func() (int, terms.Fault) { return 0, k.lock(p, fd, kind, from, length, wait) })
 }
 
 // Test tells who is in the way of a lock (P5).
 func (k *Kernel) Test(p int, fd int, kind int, from int, length int) api.Reply {
-	k.guard.Lock()
-	defer k.guard.Unlock()
-	return reply(k.test(p, fd, kind, from, length))
+	return k.call(p, func() (int, terms.Fault) { return k.test(p, fd, kind, from, length) })
 }
 
 // Whole locks a whole file, or frees it (P6).
 func (k *Kernel) Whole(p int, fd int, kind int, wait bool) api.Reply {
-	k.guard.Lock()
-	defer k.guard.Unlock()
-	return reply(0, k.whole(p, fd, kind))
+	return k.call(p, func() (int, terms.Fault) { return 0, k.whole(p, fd, kind, wait) })
 }
 
 // Runs tells the locked positions of a file (P8).
@@ -97,4 +87,18 @@ func (k *Kernel) Holds(file int) []api.Hold {
 }
 
 // Waiting tells the processes that wait (P8).
-func (k *Kernel) Waiting() []int { return nil }
+func (k *Kernel) Waiting() []int {
+	k.guard.Lock()
+	defer k.guard.Unlock()
+	return k.queue.Procs()
+}
+
+// call answers a process that may not wait meanwhile. Who waits is there, so Blocked can not hide NoProc.
+func (k *Kernel) call(p int, do func() (int, terms.Fault)) api.Reply {
+	k.guard.Lock()
+	defer k.guard.Unlock()
+	if k.queue.Has(p) {
+		return k.answer(0, terms.Blocked)
+	}
+	return k.answer(do())
+}

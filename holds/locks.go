@@ -1,8 +1,8 @@
 package holds
 
 import (
-	"holds/api"
 	"holds/procs"
+	"holds/queue"
 	"holds/runs"
 	"holds/terms"
 	"holds/wholes"
@@ -14,6 +14,7 @@ func (k *Kernel) kill(p int) terms.Fault {
 	if f := k.procs.Kill(p); f != terms.OK {
 		return f
 	}
+	k.queue = k.queue.Without(p)
 	for i := range k.files {
 		k.files[i].runs = k.files[i].runs.Without(p)
 	}
@@ -40,45 +41,34 @@ func (k *Kernel) sweep() {
 	}
 }
 
-// lock does not wait yet: what is in the way is told as Busy.
-func (k *Kernel) lock(p, fd, kind, from, length int) terms.Fault {
+func (k *Kernel) lock(p, fd, kind, from, length int, wait bool) terms.Fault {
 	file, asked, f := k.read(p, fd, kind, from, length, terms.Free)
 	if f != terms.OK {
 		return f
 	}
-	at := &k.files[file]
-	if at.runs.Biter(asked) >= 0 {
-		return terms.Busy
-	}
-	next := at.runs.Set(asked)
-	if len(next) > api.MaxRuns {
-		return terms.Table
-	}
-	at.runs = next
-	return terms.OK
+	return k.ask(queue.Ask{Proc: p, File: file, Run: asked}, wait)
 }
 
+// test minds those alone that have a lock, not those that wait for one.
 func (k *Kernel) test(p, fd, kind, from, length int) (int, terms.Fault) {
 	file, asked, f := k.read(p, fd, kind, from, length, terms.Shared)
 	if f != terms.OK {
 		return 0, f
 	}
-	return k.files[file].runs.Biter(asked), terms.OK
+	if who := k.files[file].runs.Biters(asked); len(who) > 0 {
+		return who[0], terms.OK
+	}
+	return -1, terms.OK
 }
 
-// whole does not wait yet, as lock does not.
-func (k *Kernel) whole(p, fd, kind int) terms.Fault {
+func (k *Kernel) whole(p, fd, kind int, wait bool) terms.Fault {
 	owner, known, f := k.find(p, fd, kind, terms.Free)
 	if f != terms.OK {
 		return f
 	}
-	at := &k.files[owner.File()]
-	asked := wholes.Lock{Owner: owner, Kind: known}
-	if at.wholes.Bitten(asked) {
-		return terms.Busy
-	}
-	at.wholes = at.wholes.Set(asked)
-	return terms.OK
+	k.turns++
+	asked := wholes.Lock{Owner: owner, Kind: known, Turn: k.turns}
+	return k.ask(queue.Ask{Proc: p, File: owner.File(), Whole: asked}, wait)
 }
 
 // read makes of a call's numbers the file and the lock on positions that is asked for.

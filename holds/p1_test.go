@@ -12,11 +12,14 @@ func TestP1AllNumbers(t *testing.T) {
 	k := family(2)
 	k.Lock(0, 0, shared, 5, 5, false)
 	for _, a := range wild {
+		// Most of them come while a process waits.
+		k.Lock(1, 0, alone, 5, 1, true)
 		for _, b := range wild {
 			k.Open(a, b)
 			k.Dup(a, b)
 			for _, c := range wild {
 				k.Whole(a, b, c, false)
+				k.Whole(a, b, c, true)
 				for _, d := range wild {
 					k.Lock(0, 0, c, a, d, false)
 					k.Lock(a, b, c, d, d, true)
@@ -118,4 +121,42 @@ func busyWith(k *holds.Kernel, p int) {
 	}
 	k.Whole(p, k.Open(p, 1).N, shared, false)
 	k.Lock(p, 0, shared, 10*p+5, 2, false)
+}
+
+// Each waiting ends once, whoever lets it: no Done is lost and none comes twice.
+func TestP1GoroutinesThatWait(t *testing.T) {
+	for range 30 {
+		k := apart(api.MaxProcs)
+		var all sync.WaitGroup
+		var began, ended [api.MaxProcs]int
+		for p := range api.MaxProcs {
+			all.Go(func() { began[p], ended[p] = waitOften(k, p) })
+		}
+		all.Wait()
+		open := len(k.Waiting())
+		for p := range api.MaxProcs {
+			open -= began[p] - ended[p]
+		}
+		if open != 0 {
+			t.Errorf("%v began to wait, %v times waiting was told to end, and %v wait", began, ended, k.Waiting())
+		}
+	}
+}
+
+// waitOften counts how often a process began to wait, and how many it was told of that wait no more.
+func waitOften(k *holds.Kernel, p int) (began, ended int) {
+	tell := func(r api.Reply) {
+		ended += len(r.Done)
+		if r.Err == api.Pending {
+			began++
+		}
+	}
+	for i := range 100 {
+		tell(k.Lock(p, 0, shared+i%2, i%7, 1+i%3, true))
+		tell(k.Whole(p, 0, shared+i%3%2, true))
+		k.Waiting()
+		tell(k.Whole(p, 0, free, false))
+		tell(k.Lock(p, 0, free, 0, 0, false))
+	}
+	return began, ended
 }

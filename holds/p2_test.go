@@ -67,8 +67,40 @@ func TestP2ListsOfOneAnswerAreApart(t *testing.T) {
 	}
 }
 
+func TestP2DoneAndWaitingAreNew(t *testing.T) {
+	k := apart(6)
+	k.Lock(0, 0, alone, 0, 1, false)
+	k.Lock(0, 0, alone, 2, 1, false)
+	for p := 1; p < 4; p++ {
+		k.Lock(p, 0, shared, 0, 1, true)
+	}
+	k.Lock(4, 0, shared, 2, 1, true)
+	k.Lock(5, 0, shared, 2, 1, true)
+	kept, other := k.Waiting(), k.Waiting()
+	_ = append(other, 9)
+	clear(other[:cap(other)])
+	waitingAre(t, k, 1, 2, 3, 4, 5)
+	first := k.Lock(0, 0, free, 0, 1, false)
+	_ = append(first.Done, done(9, api.OK))
+	clear(first.Done[:cap(first.Done)])
+	waitingAre(t, k, 4, 5)
+	second := k.Lock(0, 0, free, 0, 0, false)
+	is(t, "Free", second, api.OK, 0, done(4, api.OK), done(5, api.OK))
+	k.Lock(1, 0, alone, 10, 1, false)
+	k.Lock(2, 0, alone, 10, 1, true)
+	k.Kill(1)
+	is(t, "Free, kept", second, api.OK, 0, done(4, api.OK), done(5, api.OK))
+	if !slices.Equal(kept, []int{1, 2, 3, 4, 5}) {
+		t.Errorf("a list that came out has become %v", kept)
+	}
+}
+
 func TestP2KernelsAreApart(t *testing.T) {
 	a, b := family(1), family(1)
+	c := apart(2)
+	c.Lock(0, 0, alone, 0, 0, false)
+	is(t, "Lock", c.Lock(1, 0, alone, 0, 0, true), api.Pending, 0)
+	waitingAre(t, a)
 	a.Lock(0, 0, alone, 0, 0, false)
 	a.Whole(0, 0, alone, false)
 	is(t, "Fork", a.Fork(0), api.OK, 1)

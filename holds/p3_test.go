@@ -103,3 +103,50 @@ func TestP3KillAndOpenings(t *testing.T) {
 		holdsAre(t, k, file)
 	}
 }
+
+func TestP3ForkOfOneThatWaits(t *testing.T) {
+	k := apart(api.MaxProcs)
+	k.Lock(0, 0, alone, 0, 1, false)
+	is(t, "Lock", k.Lock(1, 0, alone, 0, 1, true), api.Pending, 0)
+	is(t, "Fork of one that waits, and of a full house", k.Fork(1), api.ErrBlocked, 0)
+	is(t, "Fork of another one", k.Fork(0), api.ErrFull, 0)
+	k.Kill(5)
+	is(t, "Fork of one that waits", k.Fork(1), api.ErrBlocked, 0)
+	is(t, "Fork of another one", k.Fork(0), api.OK, 5)
+	is(t, "the child does not wait", k.Fork(5), api.ErrFull, 0)
+	waitingAre(t, k, 1)
+}
+
+// What the killed one had and what it waited with are out of the way of others; it is not told itself.
+func TestP3KillOfOneThatWaits(t *testing.T) {
+	k := apart(4)
+	k.Lock(0, 0, shared, 10, 1, false)
+	k.Lock(1, 0, alone, 20, 1, false)
+	k.Lock(1, 0, alone, 10, 1, true)
+	k.Lock(2, 0, shared, 10, 1, true)
+	k.Lock(3, 0, shared, 20, 1, true)
+	waitingAre(t, k, 1, 2, 3)
+	is(t, "Kill", k.Kill(1), api.OK, 0, done(2, api.OK), done(3, api.OK))
+	waitingAre(t, k)
+	runsAre(t, k, 0, api.Run{Proc: 0, Kind: shared, From: 10, To: 10}, api.Run{Proc: 2, Kind: shared, From: 10, To: 10}, api.Run{Proc: 3, Kind: shared, From: 20, To: 20})
+	is(t, "Kill once more", k.Kill(1), api.ErrProc, 0)
+	is(t, "Fork", k.Fork(0), api.OK, 1)
+	is(t, "the new one does not wait", k.Dup(1, 0), api.OK, 1)
+	is(t, "nor has it what the killed one asked for", k.Lock(0, 0, free, 0, 0, false), api.OK, 0)
+	waitingAre(t, k)
+}
+
+func TestP3KillOfTheLastOneThatCould(t *testing.T) {
+	k := holds.New()
+	k.Open(0, 0)
+	k.Open(0, 0)
+	k.Whole(0, 0, alone, false)
+	k.Fork(0)
+	k.Fork(0)
+	is(t, "Whole", k.Whole(0, 1, shared, true), api.Pending, 0)
+	is(t, "Kill, another one is left", k.Kill(1), api.OK, 0)
+	is(t, "Kill, none is left", k.Kill(2), api.OK, 0, done(0, api.ErrDeadlock))
+	holdsAre(t, k, 0, hold(alone, 0))
+	is(t, "Kill", k.Kill(0), api.OK, 0)
+	waitingAre(t, k)
+}

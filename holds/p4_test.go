@@ -102,3 +102,53 @@ func TestP4CloseLeavesOtherOpenings(t *testing.T) {
 	is(t, "an opening anew has no lock", k.Open(0, 1), api.OK, 0)
 	holdsAre(t, k, 1)
 }
+
+// Each call has all the faults that come behind ErrBlocked.
+func TestP4OfOneThatWaits(t *testing.T) {
+	k := apart(2)
+	for range api.MaxFds - 1 {
+		k.Open(1, 0)
+	}
+	k.Lock(0, 0, alone, 0, 0, false)
+	is(t, "Lock", k.Lock(1, 0, shared, 3, 1, true), api.Pending, 0)
+	is(t, "Open", k.Open(1, 0), api.ErrBlocked, 0)
+	is(t, "Open of nothing", k.Open(1, api.MaxFiles), api.ErrBlocked, 0)
+	is(t, "Dup", k.Dup(1, 0), api.ErrBlocked, 0)
+	is(t, "Dup of nothing", k.Dup(1, -1), api.ErrBlocked, 0)
+	is(t, "Close", k.Close(1, 1), api.ErrBlocked, 0)
+	is(t, "Close of nothing", k.Close(1, -1), api.ErrBlocked, 0)
+	is(t, "Close", k.Close(0, 0), api.OK, 0, done(1, api.OK))
+	is(t, "Close", k.Close(1, 1), api.OK, 0)
+	is(t, "Open", k.Open(1, 2), api.OK, 1)
+}
+
+func TestP4CloseTellsWhoWaitsNoMore(t *testing.T) {
+	k := apart(4)
+	k.Open(0, 0)
+	k.Open(0, 1)
+	k.Open(3, 1)
+	k.Lock(0, 0, alone, 0, 1, false)
+	k.Whole(0, 1, alone, false)
+	k.Lock(0, 2, alone, 0, 1, false)
+	k.Lock(1, 0, shared, 0, 1, true)
+	k.Whole(2, 0, shared, true)
+	k.Lock(3, 1, shared, 0, 1, true)
+	waitingAre(t, k, 1, 2, 3)
+	is(t, "Close of what did not lock it", k.Close(0, 1), api.OK, 0, done(1, api.OK), done(2, api.OK))
+	waitingAre(t, k, 3)
+	is(t, "Close", k.Close(0, 0), api.OK, 0)
+	is(t, "Close of the other file", k.Close(0, 2), api.OK, 0, done(3, api.OK))
+}
+
+func TestP4CloseByTheLastOneThatCould(t *testing.T) {
+	k := holds.New()
+	k.Open(0, 0)
+	k.Open(0, 0)
+	k.Fork(0)
+	k.Dup(1, 0)
+	k.Whole(0, 0, alone, false)
+	is(t, "Whole", k.Whole(0, 1, alone, true), api.Pending, 0)
+	is(t, "Close, another descriptor is left", k.Close(1, 0), api.OK, 0)
+	is(t, "Close", k.Close(1, 2), api.OK, 0, done(0, api.ErrDeadlock))
+	holdsAre(t, k, 0, hold(alone, 0))
+}

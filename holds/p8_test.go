@@ -26,7 +26,6 @@ func TestP8HoldsInTheOrderInWhichTheyWereGot(t *testing.T) {
 	holdsAre(t, k, 0, hold(shared, 1), hold(shared, 2), hold(shared, 0))
 }
 
-// A lock changes its kind beside others only towards Shared, and then there was none beside it.
 func TestP8HoldsOfAnotherKind(t *testing.T) {
 	k := apart(3)
 	k.Whole(1, 0, alone, false)
@@ -72,4 +71,54 @@ func TestP8OfNoFile(t *testing.T) {
 		}
 	}
 	holdsAre(t, k, 0, hold(alone, 0))
+}
+
+// 0 asked for another kind behind 2 and 1, so its lock has the last place, though 2 and 1 got theirs by it.
+func TestP8HoldsThatWereWaitedFor(t *testing.T) {
+	k := apart(3)
+	k.Whole(0, 0, alone, false)
+	is(t, "Whole", k.Whole(2, 0, shared, true), api.Pending, 0)
+	is(t, "Whole", k.Whole(1, 0, shared, true), api.Pending, 0)
+	is(t, "less", k.Whole(0, 0, shared, false), api.OK, 0, done(2, api.OK), done(1, api.OK))
+	holdsAre(t, k, 0, hold(shared, 2), hold(shared, 1), hold(shared, 0))
+	is(t, "the same kind", k.Whole(2, 0, shared, true), api.OK, 0)
+	holdsAre(t, k, 0, hold(shared, 2), hold(shared, 1), hold(shared, 0))
+}
+
+// 3 asks behind 1 and gets it ahead of 1, which waits behind 2, who has the opening of 3.
+func TestP8HoldsHaveThePlaceOfWhenTheyWereAskedFor(t *testing.T) {
+	k := apart(3)
+	k.Fork(2)
+	k.Whole(0, 0, shared, false)
+	is(t, "Whole", k.Whole(2, 0, alone, true), api.Pending, 0)
+	is(t, "Whole", k.Whole(1, 0, shared, true), api.Pending, 0)
+	is(t, "Whole", k.Whole(3, 0, shared, true), api.OK, 0)
+	holdsAre(t, k, 0, hold(shared, 0), hold(shared, 2, 3))
+	is(t, "Kill", k.Kill(2), api.OK, 0, done(1, api.OK))
+	holdsAre(t, k, 0, hold(shared, 0), hold(shared, 1), hold(shared, 3))
+}
+
+func TestP8WaitingInTheOrderInWhichTheyAsked(t *testing.T) {
+	k := apart(6)
+	waitingAre(t, k)
+	k.Lock(0, 0, alone, 0, 9, false)
+	k.Whole(0, 0, alone, false)
+	k.Lock(4, 0, shared, 3, 1, true)
+	k.Whole(2, 0, shared, true)
+	k.Lock(5, 0, alone, 2, 5, true)
+	k.Whole(1, 0, shared, true)
+	k.Lock(3, 0, alone, 0, 1, true)
+	waitingAre(t, k, 4, 2, 5, 1, 3)
+	k.Kill(5)
+	waitingAre(t, k, 4, 2, 1, 3)
+	k.Whole(0, 0, free, false)
+	waitingAre(t, k, 4, 3)
+	k.Lock(2, 0, alone, 1, 1, true)
+	waitingAre(t, k, 4, 3, 2)
+	k.Lock(0, 0, free, 3, 1, false)
+	waitingAre(t, k, 3, 2)
+	k.Lock(4, 0, alone, 2, 1, true)
+	waitingAre(t, k, 3, 2, 4)
+	k.Kill(0)
+	waitingAre(t, k)
 }

@@ -5,7 +5,7 @@ import (
 	"holds/terms"
 )
 
-// The methods of this file are called while the guard is held. What they give is new memory.
+// The methods of this file are called while the guard is held. The lists that they give are new memory.
 
 func (k *Kernel) tellRuns(file int) []api.Run {
 	var out []api.Run
@@ -31,7 +31,11 @@ func (k *Kernel) at(file int) locked {
 	return k.files[file]
 }
 
-// reply turns the words of the inside into those of package api, which have the same numbers.
-func reply(n int, f terms.Fault) api.Reply {
-	return api.Reply{Err: api.Errno(f), N: n}
+// answer turns the words of the inside into those of package api, which have the same numbers. Behind a call that may have changed something it tells who waits no more.
+func (k *Kernel) answer(n int, f terms.Fault) api.Reply {
+	r := api.Reply{Err: api.Errno(f), N: n}
+	if f == terms.OK {
+		r.Done = k.settle()
+	}
+	return r
 }

@@ -40,15 +40,16 @@ func Bounds(from, length int) (first, last int, ok bool) {
 	return first, last, true
 }
 
-// Biter tells the least process that has a lock which bites the one asked for; -1, if there is none.
-func (l List) Biter(asked Run) int {
-	least := -1
+// Biters tells the processes that have a lock which bites the one asked for, rising, each once.
+func (l List) Biters(asked Run) []int {
+	var procs []int
 	for _, r := range l {
-		if r.bites(asked) && (least < 0 || r.Proc < least) {
-			least = r.Proc
+		if r.Bites(asked) {
+			procs = append(procs, r.Proc)
 		}
 	}
-	return least
+	slices.Sort(procs)
+	return slices.Compact(procs)
 }
 
 // Set gives the list behind a lock that came, or behind one that went, if its kind is Free.
@@ -110,7 +111,8 @@ func (r Run) meets(o Run) bool {
 	return r.From <= o.To && o.From <= r.To
 }
 
-func (r Run) bites(o Run) bool {
+// Bites wants two of the same file.
+func (r Run) Bites(o Run) bool {
 	return r.Proc != o.Proc && r.meets(o) && terms.Bite(r.Kind, o.Kind)
 }
 

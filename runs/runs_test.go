@@ -91,18 +91,19 @@ func TestWithout(t *testing.T) {
 	}
 }
 
-func TestBiter(t *testing.T) {
-	l := List{{4, shared, 0, 5}, {1, shared, 5, 9}, {2, alone, 20, 29}}
+func TestBiters(t *testing.T) {
+	l := List{{4, shared, 0, 5}, {1, shared, 5, 9}, {2, alone, 20, 29}, {1, shared, 40, 40}}
 	for _, c := range []struct {
 		asked Run
-		who   int
+		who   []int
 	}{
-		{Run{0, shared, 0, 19}, -1}, {Run{0, alone, 0, 4}, 4}, {Run{0, alone, 0, 5}, 1}, {Run{0, alone, 9, 30}, 1},
-		{Run{0, alone, 10, 19}, -1}, {Run{0, shared, 10, 20}, 2}, {Run{0, shared, 29, 29}, 2}, {Run{0, shared, 30, 30}, -1},
-		{Run{1, alone, 5, 9}, 4}, {Run{1, alone, 6, 9}, -1}, {Run{2, alone, 10, 63}, -1}, {Run{0, free, 0, 63}, -1},
+		{Run{0, shared, 0, 19}, nil}, {Run{0, alone, 0, 4}, []int{4}}, {Run{0, alone, 0, 5}, []int{1, 4}}, {Run{0, alone, 9, 30}, []int{1, 2}},
+		{Run{0, alone, 10, 19}, nil}, {Run{0, shared, 10, 20}, []int{2}}, {Run{0, shared, 29, 29}, []int{2}}, {Run{0, shared, 30, 30}, nil},
+		{Run{1, alone, 5, 9}, []int{4}}, {Run{1, alone, 6, 9}, nil}, {Run{2, alone, 10, 39}, nil}, {Run{0, free, 0, 63}, nil},
+		{Run{0, alone, 0, 63}, []int{1, 2, 4}},
 	} {
-		if who := l.Biter(c.asked); who != c.who {
-			t.Errorf("Biter(%v) = %d, want %d", c.asked, who, c.who)
+		if who := l.Biters(c.asked); !slices.Equal(who, c.who) {
+			t.Errorf("Biters(%v) = %v, want %v", c.asked, who, c.who)
 		}
 	}
 }
