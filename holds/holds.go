@@ -12,13 +12,12 @@ import (
 	"holds/wholes"
 )
 
-// Kernel is processes, their openings of files, what is locked, and what is waited with. Turns counts the locks of whole files that were asked for.
+// Kernel is processes, their openings of files, what is locked, and what is waited with.
 type Kernel struct {
 	guard sync.Mutex
 	procs *procs.Table
 	files [api.MaxFiles]locked
 	queue queue.List
-	turns int
 }
 
 // locked is what is locked of a file: the two sorts have nothing to do with one another.

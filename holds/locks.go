@@ -66,8 +66,7 @@ func (k *Kernel) whole(p, fd, kind int, wait bool) terms.Fault {
 	if f != terms.OK {
 		return f
 	}
-	k.turns++
-	asked := wholes.Lock{Owner: owner, Kind: known, Turn: k.turns}
+	asked := wholes.Lock{Owner: owner, Kind: known}
 	return k.ask(queue.Ask{Proc: p, File: owner.File(), Whole: asked}, wait)
 }
 

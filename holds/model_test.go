@@ -25,7 +25,7 @@ type want struct {
 	o                    *opened
 }
 
-// opened has its lock, and when it was asked for, or for another kind, last.
+// opened has its lock, and when it was got, or got another kind, last.
 type opened struct {
 	file, kind, since int
 }
@@ -253,7 +253,8 @@ func (m *model) ask(w *want, wait bool) api.Reply {
 func (m *model) have(w *want) api.Errno {
 	if w.o != nil {
 		if w.kind != w.o.kind {
-			w.o.kind, w.o.since = w.kind, w.asked
+			m.now++
+			w.o.kind, w.o.since = w.kind, m.now
 		}
 		return api.OK
 	}

@@ -73,20 +73,21 @@ func TestP8OfNoFile(t *testing.T) {
 	holdsAre(t, k, 0, hold(alone, 0))
 }
 
-// 0 asked for another kind behind 2 and 1, so its lock has the last place, though 2 and 1 got theirs by it.
+// The lock of 0 gets another kind, and only behind that do 2 and 1, who asked ahead of it, get theirs.
 func TestP8HoldsThatWereWaitedFor(t *testing.T) {
 	k := apart(3)
 	k.Whole(0, 0, alone, false)
 	is(t, "Whole", k.Whole(2, 0, shared, true), api.Pending, 0)
 	is(t, "Whole", k.Whole(1, 0, shared, true), api.Pending, 0)
 	is(t, "less", k.Whole(0, 0, shared, false), api.OK, 0, done(2, api.OK), done(1, api.OK))
-	holdsAre(t, k, 0, hold(shared, 2), hold(shared, 1), hold(shared, 0))
+	holdsAre(t, k, 0, hold(shared, 0), hold(shared, 2), hold(shared, 1))
 	is(t, "the same kind", k.Whole(2, 0, shared, true), api.OK, 0)
-	holdsAre(t, k, 0, hold(shared, 2), hold(shared, 1), hold(shared, 0))
+	is(t, "the same kind", k.Whole(0, 0, shared, true), api.OK, 0)
+	holdsAre(t, k, 0, hold(shared, 0), hold(shared, 2), hold(shared, 1))
 }
 
 // 3 asks behind 1 and gets it ahead of 1, which waits behind 2, who has the opening of 3.
-func TestP8HoldsHaveThePlaceOfWhenTheyWereAskedFor(t *testing.T) {
+func TestP8HoldsOfOneThatAskedLaterAndGotItFirst(t *testing.T) {
 	k := apart(3)
 	k.Fork(2)
 	k.Whole(0, 0, shared, false)
@@ -95,7 +96,46 @@ func TestP8HoldsHaveThePlaceOfWhenTheyWereAskedFor(t *testing.T) {
 	is(t, "Whole", k.Whole(3, 0, shared, true), api.OK, 0)
 	holdsAre(t, k, 0, hold(shared, 0), hold(shared, 2, 3))
 	is(t, "Kill", k.Kill(2), api.OK, 0, done(1, api.OK))
-	holdsAre(t, k, 0, hold(shared, 0), hold(shared, 1), hold(shared, 3))
+	holdsAre(t, k, 0, hold(shared, 0), hold(shared, 3), hold(shared, 1))
+}
+
+// What 0 waits for its opening has already: got once more with the same kind, it keeps its place, though 1 got its lock between.
+func TestP8HoldsOfTheSameKindThatWasWaitedFor(t *testing.T) {
+	k := apart(4)
+	k.Fork(0)
+	k.Whole(0, 0, shared, false)
+	k.Whole(1, 0, shared, false)
+	is(t, "Whole", k.Whole(3, 0, alone, true), api.Pending, 0)
+	is(t, "the same kind", k.Whole(0, 0, shared, true), api.Pending, 0)
+	is(t, "Whole", k.Whole(2, 0, shared, true), api.Pending, 0)
+	is(t, "Kill", k.Kill(3), api.OK, 0, done(0, api.OK), done(2, api.OK))
+	holdsAre(t, k, 0, hold(shared, 0, 4), hold(shared, 1), hold(shared, 2))
+}
+
+// While 0 waits for it, 4 lets the lock of their opening go: so 0 gets it anew, behind the lock of 1.
+func TestP8HoldsThatWentWhileTheyWereWaitedFor(t *testing.T) {
+	k := apart(4)
+	k.Fork(0)
+	k.Whole(0, 0, shared, false)
+	k.Whole(1, 0, shared, false)
+	is(t, "Whole", k.Whole(3, 0, alone, true), api.Pending, 0)
+	is(t, "the same kind", k.Whole(0, 0, shared, true), api.Pending, 0)
+	is(t, "Free", k.Whole(4, 0, free, false), api.OK, 0)
+	holdsAre(t, k, 0, hold(shared, 1))
+	is(t, "Kill", k.Kill(3), api.OK, 0, done(0, api.OK))
+	holdsAre(t, k, 0, hold(shared, 1), hold(shared, 0, 4))
+}
+
+// 2 asked ahead of 0, but only by the other kind that the lock of 0 gets can it have its own.
+func TestP8HoldsOfAnotherKindThatWasWaitedFor(t *testing.T) {
+	k := apart(3)
+	k.Fork(0)
+	k.Whole(0, 0, alone, false)
+	is(t, "Whole", k.Whole(1, 0, alone, true), api.Pending, 0)
+	is(t, "Whole", k.Whole(2, 0, shared, true), api.Pending, 0)
+	is(t, "less", k.Whole(0, 0, shared, true), api.Pending, 0)
+	is(t, "Kill", k.Kill(1), api.OK, 0, done(0, api.OK), done(2, api.OK))
+	holdsAre(t, k, 0, hold(shared, 0, 3), hold(shared, 2))
 }
 
 func TestP8WaitingInTheOrderInWhichTheyAsked(t *testing.T) {

@@ -1,22 +1,20 @@
-// Package wholes: the locks of one whole file, in turn.
+// Package wholes: the locks of one whole file, in the order in which they were got.
 package wholes
 
 import (
-	"cmp"
 	"slices"
 
 	"holds/procs"
 	"holds/terms"
 )
 
-// Lock is an opening's; one that is asked for has the same shape. Its turn counts when it was asked for.
+// Lock is an opening's; one that is asked for has the same shape.
 type Lock struct {
 	Owner *procs.Opening
 	Kind  terms.Kind
-	Turn  int
 }
 
-// List is the locks of a whole file by their turns: who waited for one has the place that it had when it asked. Its methods leave it as it is.
+// List is the locks of a whole file in the order in which they were got, or got another kind, last; how long one was waited for does not matter. Its methods leave it as it is.
 type List []Lock
 
 // Biters tells the openings that have a lock which bites the one asked for.
@@ -33,15 +31,14 @@ func (l List) Biters(asked Lock) []*procs.Opening {
 // Set gives the list behind a lock that came, or behind one that went, if its kind is Free.
 func (l List) Set(asked Lock) List {
 	// The same lock once more keeps its place.
-	if slices.ContainsFunc(l, asked.same) {
+	if slices.Contains(l, asked) {
 		return l
 	}
 	rest := l.Keep(func(o *procs.Opening) bool { return o != asked.Owner })
 	if asked.Kind == terms.Free {
 		return rest
 	}
-	i, _ := slices.BinarySearchFunc(rest, asked, order)
-	return slices.Insert(rest, i, asked)
+	return append(rest, asked)
 }
 
 // Keep gives the list with the locks of those owners alone that stay.
@@ -58,12 +55,4 @@ func (l List) Keep(stays func(*procs.Opening) bool) List {
 // Bites wants two of the same file.
 func (a Lock) Bites(b Lock) bool {
 	return a.Owner != b.Owner && terms.Bite(a.Kind, b.Kind)
-}
-
-func (a Lock) same(b Lock) bool {
-	return a.Owner == b.Owner && a.Kind == b.Kind
-}
-
-func order(a, b Lock) int {
-	return cmp.Compare(a.Turn, b.Turn)
 }
